@@ -89,7 +89,7 @@ func sizeAt(text string, at int) int {
 
 func rowOfDigits(text string, at int) int {
 	size := 0
-	for at+size < len(text) && isDigit(text[at+size]) {
+	for at+size < len(text) && IsDigit(text[at+size]) {
 		size++
 	}
 	return size
@@ -97,7 +97,7 @@ func rowOfDigits(text string, at int) int {
 
 func rowOfLetters(text string, at int) int {
 	size := 0
-	for at+size < len(text) && isLetter(text[at+size]) {
+	for at+size < len(text) && IsLetter(text[at+size]) {
 		size++
 	}
 	return size
@@ -109,10 +109,10 @@ func read(part string) Token {
 	switch {
 	case len(part) == 0:
 		return found
-	case isDigit(part[0]):
+	case IsDigit(part[0]):
 		found.Kind = Num
 		found.Value = value(part)
-	case isLetter(part[0]):
+	case IsLetter(part[0]):
 		found.Kind = wordKind(part)
 		if found.Kind == Name {
 			found.Word = word(part)
@@ -143,11 +143,13 @@ func isBlank(b byte) bool {
 	return b == ' ' || b == '\n'
 }
 
-func isDigit(b byte) bool {
+// IsDigit: is it a digit, of a formula or of a line?
+func IsDigit(b byte) bool {
 	return b >= '0' && b <= '9'
 }
 
-func isLetter(b byte) bool {
+// IsLetter: is it a letter of a word, in a formula or in a line?
+func IsLetter(b byte) bool {
 	return b >= 'a' && b <= 'z'
 }
 
